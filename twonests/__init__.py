@@ -1,0 +1,1 @@
+"""Twonests: each thing at one of two places."""
